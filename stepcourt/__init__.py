@@ -1,0 +1,1 @@
+"""Stepcourt: who tells rightly how a long run stands, found by halves."""

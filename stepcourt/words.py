@@ -1,0 +1,46 @@
+"""The bounds that the program goes by, names, numbers in figures, and the value of an op."""
+
+WIDE = 4294967296
+GREAT = 1000000000000
+ROOM = 8
+WAITS = 6
+DEEDS = 8
+
+SIGNS = ("+", "-", "*", "<", "=")
+LETTERS = "abcdefghijklmnopqrstuvwxyz"
+FIGURES = "0123456789"
+LONGEST_NAME = 6
+TAKEN = ("cell", "row", "def", "main", "set", "put", "while", "if", "else", "call", "end", "at")
+
+
+def is_name(text):
+    """Whether a text is a name."""
+    if len(text) < 1 or len(text) > LONGEST_NAME or text in TAKEN:
+        return False
+    return all([sign in LETTERS for sign in text])
+
+
+def value(sign, a, b):
+    """The word that an op makes of the words a and b."""
+    if sign == "+":
+        return (a + b) % WIDE
+    if sign == "-":
+        return (a - b) % WIDE
+    if sign == "*":
+        return (a * b) % WIDE
+    if sign == "<":
+        return 1 if a < b else 0
+    return 1 if a == b else 0
+
+
+def number_in(text):
+    """The number that a text of figures tells, without a nought ahead of others; else None."""
+    if text == "" or (text[0] == "0" and text != "0"):
+        return None
+    # Figure by figure, for Python's own int refuses some thousand of them, which a text may have.
+    number = 0
+    for sign in text:
+        if sign not in FIGURES:
+            return None
+        number = 10 * number + FIGURES.index(sign)
+    return number
