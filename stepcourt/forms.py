@@ -29,6 +29,17 @@ def parts(term):
     return len(terms_in(term))
 
 
+def own_terms(statement):
+    """The terms right within a statement."""
+    if statement[0] == "put":
+        return (statement[2], statement[3])
+    if statement[0] == "set":
+        return (statement[2],)
+    if statement[0] == "call":
+        return ()
+    return (statement[1],)
+
+
 def inner_bodies(statement):
     """The bodies right within a statement."""
     if statement[0] == "while":

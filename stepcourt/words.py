@@ -44,3 +44,14 @@ def number_in(text):
             return None
         number = 10 * number + FIGURES.index(sign)
     return number
+
+
+def figures_of(number):
+    """The figures of a number from 0 on."""
+    # Figure by figure, likewise: Python's own str refuses a number of some thousand figures.
+    figures = []
+    while number > 9:
+        figures.append(FIGURES[number % 10])
+        number = number // 10
+    figures.append(FIGURES[number])
+    return "".join(reversed(figures))

@@ -62,7 +62,11 @@ class Calls(unittest.TestCase):
     def test_the_texts_order_within_statements(self):
         body = (
             ("call", "a"),
-            ("while", ONE, (("call", "b"), ("if", ONE, (("call", "c"),), (("call", "d"), ("call", "e"))), ("call", "f"))),
+            (
+                "while",
+                ONE,
+                (("call", "b"), ("if", ONE, (("call", "c"),), (("call", "d"), ("call", "e"))), ("call", "f")),
+            ),
             ("put", "r", ONE, ONE),
             ("if", ONE, (), (("call", "g"),)),
             ("if", ONE, (("while", ONE, (("call", "h"),)),), ()),

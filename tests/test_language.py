@@ -13,21 +13,26 @@ STATEMENTS = (
     ast.FunctionDef, ast.ClassDef, ast.ImportFrom, ast.Assign, ast.AugAssign, ast.If, ast.While, ast.For, ast.Return,
     ast.Break, ast.Continue, ast.Pass, ast.Raise, ast.Try, ast.Expr,
 )
+TOP_STATEMENTS = (ast.ImportFrom, ast.FunctionDef, ast.ClassDef, ast.Assign)
 EXPRESSIONS = (
     ast.Constant, ast.List, ast.Tuple, ast.Dict, ast.Set, ast.BinOp, ast.UnaryOp, ast.BoolOp, ast.Compare, ast.IfExp,
     ast.Call, ast.Attribute, ast.Subscript, ast.Slice, ast.ListComp, ast.JoinedStr, ast.FormattedValue, ast.Lambda,
     ast.Name,
 )
-OWN_NAMES = """len range enumerate zip min max sum abs sorted reversed int str bool list tuple dict set frozenset isinstance
+OWN_NAMES = """
+len range enumerate zip min max sum abs sorted reversed int str bool list tuple dict set frozenset isinstance
 ord repr any all divmod Exception ValueError TypeError KeyError IndexError LookupError ZeroDivisionError ArithmeticError
 OverflowError RuntimeError NotImplementedError AttributeError StopIteration""".split()
-OWN_METHODS = """append clear copy count endswith extend find get index insert isalnum isalpha isdigit islower isspace isupper
+OWN_METHODS = """
+append clear copy count endswith extend find get index insert isalnum isalpha isdigit islower isspace isupper
 items join keys ljust lower lstrip partition pop remove replace reverse rfind rjust rpartition rsplit rstrip setdefault
 split splitlines startswith strip update upper values zfill bit_length""".split()
-UNUSED_NAMES = """register mro elements open input version_info with_traceback add_note attrgetter breakpoint builtins compile
+UNUSED_NAMES = """
+register mro elements open input version_info with_traceback add_note attrgetter breakpoint builtins compile
 copyright credits delattr dir eval exec exit gc getattr globals hasattr help id importlib license locals methodcaller os
 quit setattr super type vars sys""".split()
-UNUSED_WORDS = """type typing typing_extensions enum Enum IntEnum StrEnum Flag IntFlag Generic Protocol ABC ABCMeta namedtuple
+UNUSED_WORDS = """
+type typing typing_extensions enum Enum IntEnum StrEnum Flag IntFlag Generic Protocol ABC ABCMeta namedtuple
 NamedTuple TypedDict TYPE_CHECKING abstractmethod""".split()
 VALUES_OF_PYTHON = (str, int, list, tuple, dict, set, frozenset, bytes)
 FREE_VALUES = "count index title find get join lower upper split strip copy add".split()
@@ -56,7 +61,8 @@ def given_values(tree):
 
 
 def methods(tree):
-    return [part.name for node in of_kind(tree, ast.ClassDef) for part in node.body if isinstance(part, ast.FunctionDef)]
+    within = [part for node in of_kind(tree, ast.ClassDef) for part in node.body]
+    return [part.name for part in within if isinstance(part, ast.FunctionDef)]
 
 
 class Language(unittest.TestCase):
@@ -97,7 +103,8 @@ class Language(unittest.TestCase):
                 self.assertFalse(isinstance(node.value, str) and "%" in node.value, (path.name, node.lineno))
             for node in of_kind(tree, ast.BinOp):
                 self.assertNotIsInstance(node.op, (ast.Div, ast.MatMult), (path.name, node.lineno))
-                self.assertFalse(isinstance(node.op, ast.Pow) and not isinstance(node.right, ast.Constant), (path.name, node.lineno))
+                if isinstance(node.op, ast.Pow):
+                    self.assertIsInstance(node.right, ast.Constant, (path.name, node.lineno))
             for node in of_kind(tree, ast.ListComp):
                 self.assertEqual(len(node.generators), 1, (path.name, node.lineno))
                 self.assertLessEqual(len(node.generators[0].ifs), 1, (path.name, node.lineno))
@@ -113,7 +120,7 @@ class Language(unittest.TestCase):
         for path, tree in self.trees.items():
             self.assertIsNotNone(ast.get_docstring(tree))
             for node in tree.body[1:]:
-                self.assertIsInstance(node, (ast.ImportFrom, ast.FunctionDef, ast.ClassDef, ast.Assign), (path.name, node.lineno))
+                self.assertIsInstance(node, TOP_STATEMENTS, (path.name, node.lineno))
                 if isinstance(node, ast.Assign):
                     ast.literal_eval(node.value)
 
@@ -195,6 +202,7 @@ class Language(unittest.TestCase):
 
     def test_walked_at_once(self):
         walkers = ("zip", "enumerate", "reversed", "range")
+        views = ("items", "keys", "values")
         for path, tree in self.trees.items():
             walked = [node.iter for node in of_kind(tree, ast.For, ast.comprehension)]
             for call in of_kind(tree, ast.Call):
@@ -202,7 +210,7 @@ class Language(unittest.TestCase):
                 if name in "list tuple dict sorted sum any all enumerate zip min max join".split():
                     walked += call.args
             for call in of_kind(tree, ast.Call):
-                if getattr(call.func, "id", "") in walkers or getattr(call.func, "attr", "") in ("items", "keys", "values"):
+                if getattr(call.func, "id", "") in walkers or getattr(call.func, "attr", "") in views:
                     self.assertIn(call, walked, (path.name, call.lineno))
 
     def test_errors_that_are_taken(self):

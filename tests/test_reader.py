@@ -74,14 +74,17 @@ NO_TERMS = (
     "(at  r 1)", "(at r  1)", "(at r 1 )", "( at r 1)", "(at row 1)", "(at R 1)", "(At r 1)", "(+ at r 1)", "[+ 1 2]",
     "(+ 1 4294967296)", "(+ 1 end)", "(+ (1) 2)", "(+ 1 (2))", "(+ 1 ())", "(+ () 1)", "1\n", "\n1", "(+ 1\n2)", "\n",
     "(+ 1 (- 2 (* 3 (at r 04))))", ")a(", ")(", "(+ 1 2)+", "a)", "(a", "a(", "1)", "(num 1)", "(cell a)", "((+) 1 2)",
-    "(() 1 2)", "((+ 1 2) 3 4)",
+    "(() 1 2)", "((+ 1 2) 3 4)", "(+ 01 1)", "(+ end 1)", "(+ 4294967296 1)", "(- + 1)", "(+ A 1)", "1 (", "1 (+ 1 2",
+    "(+ 1 2) (", "a (at r 1", "(+ 1 2) )", "1 )", "a ) (", "(+ 1 (- 2 3)", "(+ (- 2 3) 1", "(at r (+ 1 01))",
 )
 
 NO_ROWS_WITHIN = (
     "", " ", "set", "set ", "set a", "set a ", "set a  1", "set  a 1", " set a 1", "set a 1 ", "set a 1 2", "set 1 1",
-    "set a 01", "set end 1", "set (at r 1) 2", "set a (+ 1 2", "set a + 1 2", "Set a 1", "set a at", "seta 1",
+    "set a 01", "set end 1", "set a 1 (", "set a 1 (+ 1 2", "set a 1 )", "set a (= 01 1)",
+    "set (at r 1) 2", "set a (+ 1 2", "set a + 1 2", "Set a 1", "set a at", "seta 1",
     "put", "put r", "put r 1", "put r 1 2 3", "put r 1 2 ", "put r 1  2", "put  r 1 2", "put 1 1 1", "put at 1 1",
     "put r (+ 1 2)", "put r (+ 1 2)3", "put r 1(+ 1 2)", "put r (1 2)", "put r 1 02", "put r (+ 1 2) (+ 1 2",
+    "put r 1 2 (", "put r 1 2 (+ 1", "put r 1 2 )", "put r (1) 2", "put r 01 2", "while 1 (+ 1 2", "if 1 (", "if 1 )",
     "while", "while ", "while 1 1", "while  1", "while 1 ", "while end", "while (", "if", "if ", "if 1 1", "if  1",
     "if 1 ", "if else", "call", "call ", "call f f", "call f ", "call  f", " call f", "call 1", "call main", "call (f)",
     "call abcdefg", "end ", " end", "End", "(end", "end)", "end end", "else ", "else end", "def f", "main", "cell a 0",

@@ -123,6 +123,13 @@ class Figures(unittest.TestCase):
         for text in ("", "00", "01", "-1", "+1", " 1", "1 ", "1_0", "1.0", "a", "0x1", "1a", "\u0663", "\u00b2"):
             self.assertIsNone(number_in(text))
 
+    def test_each_sign(self):
+        for number in range(256):
+            sign = chr(number)
+            due = string.digits.find(sign)
+            self.assertEqual(number_in(sign), due if due >= 0 else None)
+            self.assertEqual(number_in("1" + sign), 10 + due if due >= 0 else None)
+
     def test_thousands_of_figures(self):
         self.assertEqual(number_in("1" + "0" * 7000), 10 ** 7000)
 
