@@ -1,4 +1,4 @@
-"""The bounds that the program goes by, names, numbers in figures, and the value of an op."""
+"""The bounds that the program goes by, names, numbers in figures, doublings, and the value of an op."""
 
 WIDE = 4294967296
 GREAT = 1000000000000
@@ -55,3 +55,13 @@ def figures_of(number):
         number = number // 10
     figures.append(FIGURES[number])
     return "".join(reversed(figures))
+
+
+def doublings(number):
+    """The least number of times that 1 is doubled until it isn't less than a number."""
+    many = 0
+    size = 1
+    while size < number:
+        size = 2 * size
+        many += 1
+    return many

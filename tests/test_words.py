@@ -1,10 +1,10 @@
-"""Bounds, names, the value of an op, numbers in figures."""
+"""Bounds, names, the value of an op, numbers in figures, doublings."""
 
 import string
 import unittest
 
 from stepcourt import words
-from stepcourt.words import is_name, number_in, value
+from stepcourt.words import doublings, is_name, number_in, value
 
 LAST = 4294967295
 
@@ -132,6 +132,12 @@ class Figures(unittest.TestCase):
 
     def test_thousands_of_figures(self):
         self.assertEqual(number_in("1" + "0" * 7000), 10 ** 7000)
+
+
+class Doublings(unittest.TestCase):
+    def test_the_least_that_is_not_less(self):
+        for number, many in ((0, 0), (1, 0), (2, 1), (3, 2), (4, 2), (5, 3), (32, 5), (33, 6), (64, 6), (65, 7)):
+            self.assertEqual(doublings(number), many)
 
 
 if __name__ == "__main__":
