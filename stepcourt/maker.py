@@ -25,10 +25,15 @@ def rows_many(body):
     return sum([own_many(statement) for statement in statements_in(body)])
 
 
+def end_row(program):
+    """The row of end."""
+    return rows_many(program[3])
+
+
 def def_rows(program):
     """The first row of each def, by its name."""
     told = {}
-    row = rows_many(program[3]) + 1
+    row = end_row(program) + 1
     for name, body in program[2]:
         told[name] = row
         row += rows_many(body) + 1
@@ -128,6 +133,6 @@ def code_of(program):
 def call_rows(program):
     """The row of each call, by its number."""
     rows = [number for number, row in enumerate(code_of(program)) if row[0] == "call"]
-    end = rows_many(program[3])
+    end = end_row(program)
     # The code has main ahead of the defs, the calls are numbered the other way round.
     return tuple([row for row in rows if row > end] + [row for row in rows if row < end])

@@ -1,8 +1,10 @@
-"""What several tests draw from: programs made up from a seed, and stands written out part by part."""
+"""What several tests draw from: programs made up from a seed, their short runs, stands written out by parts."""
 
 import random
 
+from stepcourt.errors import TooLong
 from stepcourt.forms import parts
+from stepcourt.plain import plain_run
 from stepcourt.words import WIDE
 
 NAMES = ("a", "b", "x", "yz", "abcdef", "num", "op")
@@ -69,6 +71,19 @@ class Maker:
     def numbers(self, program):
         many = self.chance.randint(0, len(program[0]))
         return tuple([self.chance.choice(WORDS) for turn in range(many)])
+
+
+def short_runs(many, most):
+    """Of so many made-up programs and numbers those that run by at most so many turns, with what their runs tell."""
+    for seed in range(many):
+        maker = Maker(seed)
+        program = maker.program()
+        numbers = maker.numbers(program)
+        try:
+            states, end = plain_run(program, numbers, most)
+        except TooLong:
+            continue
+        yield program, numbers, states, end
 
 
 def stand(program, boxes, room=(), waits=(), **heads):

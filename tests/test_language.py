@@ -213,6 +213,20 @@ class Language(unittest.TestCase):
                 if getattr(call.func, "id", "") in walkers or getattr(call.func, "attr", "") in views:
                     self.assertIn(call, walked, (path.name, call.lineno))
 
+    def test_sets_are_not_kept(self):
+        for path, tree in self.trees.items():
+            on_the_spot = []
+            for call in of_kind(tree, ast.Call):
+                if getattr(call.func, "id", "") in ("sorted", "len"):
+                    on_the_spot += call.args
+            for node in of_kind(tree, ast.Compare):
+                on_the_spot += [node.left] + node.comparators
+            for node in of_kind(tree, ast.Set):
+                self.assertIn(node, on_the_spot, (path.name, node.lineno))
+            for call in of_kind(tree, ast.Call):
+                if getattr(call.func, "id", "") in ("set", "frozenset"):
+                    self.assertIn(call, on_the_spot, (path.name, call.lineno))
+
     def test_errors_that_are_taken(self):
         for path, tree in self.trees.items():
             for node in of_kind(tree, ast.ExceptHandler):

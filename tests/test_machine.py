@@ -6,8 +6,7 @@ import unittest
 
 sys.path.insert(0, str(pathlib.Path(__file__).resolve().parent))
 
-from making import Maker, stand
-from stepcourt.errors import TooLong
+from making import short_runs, stand
 from stepcourt.layout import begin, room_at, waits_at
 from stepcourt.machine import row_done
 from stepcourt.maker import boxes, call_rows, code_of
@@ -166,14 +165,7 @@ class Runs(unittest.TestCase):
 
     def test_many_runs(self):
         ends = {"end": 0, "stuck": 0, "calls": 0}
-        for seed in range(300):
-            maker = Maker(seed)
-            program = maker.program()
-            numbers = maker.numbers(program)
-            try:
-                states, end = plain_run(program, numbers, 60)
-            except TooLong:
-                continue
+        for program, numbers, states, end in short_runs(300, 60):
             ends[end[0]] += 1
             ends["calls"] += len(states)
             self.run_rows(program, numbers, states, end)

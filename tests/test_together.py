@@ -7,12 +7,11 @@ import unittest
 
 sys.path.insert(0, str(pathlib.Path(__file__).resolve().parent))
 
-from making import Maker
-from stepcourt.errors import NoProgram, NoText, TooLong
+from making import Maker, short_runs
+from stepcourt.errors import NoProgram, NoText
 from stepcourt.forms import calls_in, parts
 from stepcourt.looker import look
 from stepcourt.maker import boxes, call_rows, code_of, def_rows
-from stepcourt.plain import plain_run
 from stepcourt.reader import read
 from stepcourt.words import ROOM, WAITS, value
 from stepcourt.writer import show, show_term
@@ -128,14 +127,7 @@ class Together(unittest.TestCase):
 
     def test_the_rows_do_what_the_plain_run_tells(self):
         ends = {"end": 0, "stuck": 0, "calls": 0}
-        for seed in range(MANY):
-            maker = Maker(seed)
-            program = maker.program()
-            numbers = maker.numbers(program)
-            try:
-                states, end = plain_run(program, numbers, 300)
-            except TooLong:
-                continue
+        for program, numbers, states, end in short_runs(MANY, 300):
             ends[end[0]] += 1
             ends["calls"] += len(states)
             self.compare(program, numbers, states, end)
