@@ -160,6 +160,10 @@ class Form(unittest.TestCase):
         for number in (0, 16, -1, 10 ** 17):
             self.assertEqual(self.out_for(number), ((1,), ("form",), None))
 
+    def test_neither_fewer_nor_more_than_two_numbers(self):
+        for said in ((), (16,), (16, 3, 4), (16, None), (None, 3)):
+            self.assertEqual(self.out_for(said), ((1,), ("form",), None))
+
     def test_rows_from_none_to_all(self):
         for rows in (-1, -10 ** 17, 61, 10 ** 17):
             self.assertEqual(self.out_for((rows, 3)), ((1,), ("form",), None))

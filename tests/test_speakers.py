@@ -180,6 +180,11 @@ class Added(unittest.TestCase):
             self.assertEqual(one.asked("rows", 30)[0], places.at("rows", rows))
             self.assertEqual(one.asked("deeds", (30, 4))[0], places.at("deeds", (30, deed)))
 
+    def test_beyond_call_m_where_more_calls_are_done(self):
+        places, one = speaker((((), ("true", 1), 0),), (TWICE, (7,), 60, 2))
+        self.assertEqual(one.asked("calls", 1)[0], (60, places.at("rows", 60)))
+        self.assertEqual(one.asked("calls", 2)[0], (60, places.at("rows", 60)))
+
     def test_just_to_the_ends_and_one_more(self):
         for s in (-5, -4, -3, 3, 4, 5):
             places, one = speaker((((), ("true", s), 0),))
